@@ -1,0 +1,1 @@
+"""Allscales: what holds for all changes of units."""
