@@ -143,6 +143,8 @@ class Quotients(unittest.TestCase):
                 self.assertIs(f == other, False)
         x, one = Poly(1, [((1,), 1)]), one_of(1)
         self.assertIs(Quotient(x * x - one, x + one) == Quotient(x - one, one), False)
+        self.assertIs(Quotient(one, x) == Quotient(one, x + one), False)
+        self.assertIs(Quotient(x, x + one) == Quotient(x + x, x + one), False)
         self.assertIs(Quotient(one_of(1), one_of(1)) == Quotient(one_of(2), one_of(2)), False)
 
     def test_power(self):
