@@ -53,14 +53,27 @@ def ratio_sum(one, other):
     """The sum of two ratios."""
     if one[1] == 1 and other[1] == 1:
         return (one[0] + other[0], 1)
-    return lowest(one[0] * other[1] + other[0] * one[1], one[1] * other[1])
+    # Only a factor that both bottoms have can be cancelled, so the divisors here stay small.
+    shared = gcd(one[1], other[1])
+    part = other[1] // shared
+    total = one[0] * part + other[0] * (one[1] // shared)
+    left = gcd(total, shared)
+    return (total // left, one[1] // left * part)
+
+
+def ratio_minus(one, other):
+    """The first ratio less the second one."""
+    return ratio_sum(one, (-other[0], other[1]))
 
 
 def ratio_product(one, other):
     """The product of two ratios."""
     if one[1] == 1 and other[1] == 1:
         return (one[0] * other[0], 1)
-    return lowest(one[0] * other[0], one[1] * other[1])
+    # Each ratio is in lowest terms, so only the top of one and the bottom of the other can share a factor.
+    first = gcd(one[0], other[1])
+    second = gcd(other[0], one[1])
+    return (one[0] // first * (other[0] // second), one[1] // second * (other[1] // first))
 
 
 def ratio_over(one, other):

@@ -107,13 +107,7 @@ def whole_answer(rows, right):
     multiples, rest = multiples_in(steps, right)
     if not any(rest):
         return Answer(sum_of_rows(multiples, left, len(rows[0])), left[len(steps):])
-    first = pivot_of(rest)
-    many = len(multiples)
-    # With half of what takes rest to 1, or with a part of the pivot that rest is no multiple of.
-    share = lowest(1, 2 * rest[first])
-    if many < len(steps) and pivot_of(steps[many]) == first:
-        share = (1, steps[many][first])
-    return Bar(barring(steps[:many], len(rows), first, share))
+    return Bar(whole_barring(steps, len(multiples), rest))
 
 
 def ratio_answer(rows, right):
@@ -168,6 +162,19 @@ def scaled(scale, ratio):
     """A ratio times a scale that makes it an integer."""
     top, bottom = as_ratio(ratio)
     return top * (scale // bottom)
+
+
+def whole_barring(steps, many, rest):
+    """Ratios with a sum of products with each step that is an integer, and with rest that is none.
+
+    The steps are rows in Hermite form; rest, not 0, is left by multiples_in, behind so many of them.
+    """
+    first = pivot_of(rest)
+    # With half of what takes rest to 1, or with a part of the pivot that rest is no multiple of.
+    share = lowest(1, 2 * rest[first])
+    if many < len(steps) and pivot_of(steps[many]) == first:
+        share = (1, steps[many][first])
+    return barring(steps[:many], len(rest), first, share)
 
 
 def barring(steps, width, first, share):

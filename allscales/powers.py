@@ -42,7 +42,11 @@ def least_root(k, ratio):
 
 def power_product(pairs):
     """The power value of the product of ratios to the powers of their exponents."""
-    given = [checked_pair(pair) for pair in pairs]
+    return product_value([checked_pair(pair) for pair in pairs])
+
+
+def product_value(given):
+    """As power_product, for pairs of ratios in lowest terms, with exponents of any bottom."""
     wholes = [whole for ratio, exponent in given for whole in ratio]
     # Powers of parts without common divisors can not make up for each other, so each part tells
     # its own least root, and no large product has to be searched for roots.
@@ -50,10 +54,13 @@ def power_product(pairs):
     k = 1
     for root in roots:
         k = lcm(k, root[0])
-    product = (1, 1)
-    for least, power, top in roots:
-        product = ratio_product(product, ratio_power(power, top * (k // least)))
-    return (1, k, product)
+    top = 1
+    bottom = 1
+    for least, power, many in roots:
+        factor = ratio_power(power, many * (k // least))
+        top = top * factor[0]
+        bottom = bottom * factor[1]
+    return (1, k, (top, bottom))
 
 
 def checked_pair(pair):
@@ -68,10 +75,10 @@ def checked_pair(pair):
 
 
 def part_root(part, pairs):
-    """What one coprime part gives to the product: (k, power, top) for the root k of power to the power top."""
+    """What one coprime part gives to the product: (k, power, many) for the root k of power to the power many."""
     total = (0, 1)
     for ratio, exponent in pairs:
         many = times_in(ratio[0], part) - times_in(ratio[1], part)
-        total = ratio_sum(total, (many * exponent[0], exponent[1]))
+        total = ratio_sum(total, ratio_product((many, 1), exponent))
     least, power = least_root(total[1], (part, 1))
     return (least, power, total[0])

@@ -1,8 +1,8 @@
 """Units: a text of base units, units and scales."""
 
-from allscales.errors import BadNumber, BadText, NoUnit
+from allscales.errors import BadNumber, BadText
 from allscales.exact import are_integers, ratio_product
-from allscales.words import (exponents_in, is_name, lines_of, named_power, powers_of, ratio_word, size_in,
+from allscales.words import (checked_powers, exponents_in, is_name, lines_of, powers_of, ratio_word, size_in,
                              wrong_unit_word)
 
 MOST_BASE = 6
@@ -110,11 +110,4 @@ def read_powers(text, measures):
     """The powers that a text of UNITWORDS tells, or the error of its first wrong word."""
     if not isinstance(text, str):
         raise BadText(0, 0)
-    words = text.split(" ")
-    wrong = wrong_unit_word(words, measures)
-    if wrong is None:
-        return powers_of(words)
-    told = named_power(words[wrong])
-    if told is not None and words[0] != "1":
-        raise NoUnit(told[0])
-    raise BadText(1, wrong + 1)
+    return checked_powers(text.split(" "), measures, 0)

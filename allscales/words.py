@@ -1,6 +1,6 @@
 """Words of texts: names, ratios, and the words of units."""
 
-from allscales.errors import BadText, TooLarge
+from allscales.errors import BadText, NoUnit, TooLarge
 from allscales.exact import ratio_power, ratio_product
 from allscales.ratios import DIGITS, ratio_of
 
@@ -65,6 +65,17 @@ def wrong_unit_word(words, measures):
         if told is None or told[0] not in measures:
             return at
     return None
+
+
+def checked_powers(words, measures, ahead):
+    """The powers that UNITWORDS tell, or the error of their first wrong word; so many words stand ahead of them."""
+    wrong = wrong_unit_word(words, measures)
+    if wrong is None:
+        return powers_of(words)
+    told = named_power(words[wrong])
+    if told is not None and words[0] != "1":
+        raise NoUnit(told[0])
+    raise BadText(1, ahead + wrong + 1)
 
 
 def powers_of(words):

@@ -66,3 +66,9 @@ def is_lowest(ratio):
     """Whether a value is a ratio as the package returns it."""
     return (isinstance(ratio, tuple) and len(ratio) == 2 and all(item.__class__ is int for item in ratio)
             and ratio[1] > 0 and pair(fraction(ratio)) == ratio)
+
+
+def marked(text):
+    """(the text without its mark ~, the place (line, column) of the sign behind the mark)."""
+    ahead = text[:text.index("~")]
+    return (text.replace("~", ""), (ahead.count("\n") + 1, len(ahead) - ahead.rfind("\n")))

@@ -33,6 +33,11 @@ INTERFACE = {
     "quotients": "Quotient:__add__/2 Quotient:__sub__/2 Quotient:__mul__/2 Quotient:__neg__/1 Quotient:__eq__/2 "
                  "Quotient:over/2 Quotient:power/2 Quotient:at/2 Quotient:__init__/3 same/2 is_nothing/1 number_of/2 "
                  "letter_of/2 put_in/3 monomial_of/1",
+    "amounts": "Amount:__add__/2 Amount:__sub__/2 Amount:__mul__/2 Amount:__neg__/1 Amount:__eq__/2 Amount:less/2 "
+               "Amount:over/2 Amount:power/2 Amount:__init__/3 Loop:__init__/4 read_amount/2 amount_text/3 converted/4 "
+               "ring_of/1",
+    "conversions": "Sizes:__init__/2 Ring:__init__/3 Loose:__init__/2 sizes/2 size_settled/3 loose_ends/2",
+    "formulas": "Formulas:__init__/3 Formulas:params/2 Formulas:told_units/2 Formulas:work/3 Formulas:quotient/2",
     "units": "Units:exponents_of/2 Units:size_of/2 Units:written/2 Units:__init__/2",
 }
 
@@ -74,7 +79,7 @@ class Files(unittest.TestCase):
         for name, tree, _ in trees():
             for at, node in enumerate(tree.body):
                 plain = isinstance(node, (ast.ImportFrom, ast.FunctionDef, ast.ClassDef))
-                constant = isinstance(node, ast.Assign) and isinstance(ast.literal_eval(node.value), (int, str, tuple))
+                constant = isinstance(node, ast.Assign) and isinstance(ast.literal_eval(node.value), (int, str, tuple, dict))
                 self.assertTrue(plain or constant or (at == 0 and isinstance(node, ast.Expr)), (name, node.lineno))
 
 
@@ -160,7 +165,8 @@ class Statements(unittest.TestCase):
                     self.assertTrue(isinstance(node.right, ast.Constant) and 0 <= node.right.value <= 64, name)
                 if isinstance(node, ast.AugAssign):
                     self.assertIsInstance(node.value, ast.Constant, (name, node.lineno))
-                    self.assertIsInstance(node.target, ast.Name, (name, node.lineno))
+                    target = node.target.value if isinstance(node.target, ast.Attribute) else node.target
+                    self.assertIsInstance(target, ast.Name, (name, node.lineno))
                 if isinstance(node, ast.Compare) and isinstance(node.ops[0], (ast.Is, ast.IsNot)):
                     self.assertIn(node.comparators[0].value, (None, True, False))
 
