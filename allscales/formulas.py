@@ -28,7 +28,8 @@ class Formulas:
 
     def told_units(self, name):
         """The exponents of the told units of the parameters and of the result, None where none is told."""
-        return tuple([None if letter.unit is None else letter.unit[0] for letter in formula_of(self, name).told()])
+        units = [letter.unit for letter in formula_of(self, name).told_letters()]
+        return tuple([None if unit is None else unit[0] for unit in units])
 
     def work(self, name, arguments):
         """The amount that a formula is for some arguments."""

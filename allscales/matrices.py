@@ -138,10 +138,10 @@ def is_matrix(rows):
     return width > 0 and all([len(row) == width for row in rows])
 
 
-def check_matrix(rows):
+def check_matrix(rows, what="rows"):
     """Raises the error that is due unless rows is a matrix of integers."""
     if not is_matrix(rows) or not all([are_integers(row) for row in rows]):
-        raise BadMatrix("rows")
+        raise BadMatrix(what)
 
 
 def check_items(items, many, what):

@@ -49,7 +49,7 @@ class Formula:
         self.result = result
         self.steps = steps
 
-    def told(self):
+    def told_letters(self):
         """The parameters and behind them the result."""
         return self.letters + [self.result]
 

@@ -12,7 +12,7 @@ class AmountRules:
     def __init__(self, width):
         self.width = width
 
-    def number(self, step):
+    def number_value(self, step):
         """The amount of a number."""
         exponents = (0,) * self.width if step.unit is None else step.unit[0]
         return Amount(exponents, step.fact)
@@ -65,7 +65,7 @@ class QuotientRules:
     def __init__(self, size):
         self.size = size
 
-    def number(self, step):
+    def number_value(self, step):
         """The quotient of a number."""
         return number_of(self.size, step.fact)
 
@@ -141,7 +141,7 @@ def worked_out(formula, given, rules):
 def take_step(frame, step, values, rules):
     """Takes a step that is no call and no parameter."""
     if step.kind == "number":
-        values.append(rules.number(step))
+        values.append(rules.number_value(step))
     elif step.kind == "neg":
         values.append(-values.pop())
     elif step.kind == "power":

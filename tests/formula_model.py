@@ -191,7 +191,8 @@ class Texts:
         if not called:
             return self.leaf(letters)
         line = source.choice(called)
-        return Node("call", [self.tree(letters, max(1, (size - 1) // len(line.letters))) for _ in line.letters], line.name)
+        return Node("call", [self.tree(letters, max(1, (size - 1) // len(line.letters))) for _ in line.letters],
+                    line.name)
 
     def leaf(self, letters):
         source = self.source

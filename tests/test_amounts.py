@@ -154,7 +154,8 @@ class Texts(unittest.TestCase):
             raised(self, BadText, (1, 1), read_amount, self.units, text)
 
     def test_wrong_words(self):
-        for text, column in (("5 ", 2), ("5  m", 2), ("5 m ", 3), ("5 M", 2), ("5 m^", 2), ("5 m^01", 2), ("5 m^100", 2),
+        for text, column in (("5 ", 2), ("5  m", 2), ("5 m ", 3), ("5 M", 2), ("5 m^", 2), ("5 m^01", 2),
+                             ("5 m^100", 2),
                              ("5 5", 2), ("5 1 m", 3), ("5 1 1", 3), ("5 1 x", 3), ("5 1 ", 3), ("5 m 1", 3),
                              ("5 m s 1", 4), ("5 m M x", 3), ("5 1 c", 3), ("5 m\n", 2), ("5 -1", 2), ("5 m^-0", 2)):
             raised(self, BadText, (1, column), read_amount, self.units, text)
@@ -215,7 +216,8 @@ class Readings(unittest.TestCase):
             number = some_number(source)
             there = called(self, converted, units, in_other_terms(source, pair(number)), one, two)
             (p, q), (r, s) = maps[one], maps[two]
-            self.assertEqual(shown(there), shown(pair((fraction(p) * number + fraction(q) - fraction(s)) / fraction(r))))
+            self.assertEqual(shown(there),
+                             shown(pair((fraction(p) * number + fraction(q) - fraction(s)) / fraction(r))))
             self.assertEqual(converted(units, there, two, one), pair(number))
             self.assertEqual(converted(units, converted(units, pair(number), one, third), third, two), there)
 
@@ -267,7 +269,8 @@ class Rings(unittest.TestCase):
         self.assertIsNone(ring_of([("a", "b", 2, 3), ("b", "c", (1, 2), 0), ("a", "c", 1, (3, 2))]))
         self.assertIsNone(ring_of([("a", "a", (2, 2), (0, 3))]))
         self.assertIsNone(ring_of((("", "a b", -3, 1), ("a b", "", (-1, 3), (1, 3)))))
-        for maps in ([("a", "a", 2, 0)], [("a", "a", 1, 1)], [("a", "b", 2, 3), ("b", "c", (1, 2), 0), ("a", "c", 1, 1)],
+        for maps in ([("a", "a", 2, 0)], [("a", "a", 1, 1)], [("a", "b", 2, 3), ("b", "c", (1, 2), 0),
+                                                              ("a", "c", 1, 1)],
                      [("a", "b", 1, 0), ("a", "b", -1, 0)], [("a", "b", 1, 0), ("b", "a", 1, (-1, 5))],
                      [("a", "b", 1, 0), ("c", "d", 1, 0), ("d", "e", 2, 0), ("c", "e", 3, 0)]):
             self.walk(maps, called(self, ring_of, maps))

@@ -12,8 +12,8 @@ from support import NO_TEXTS, called, raised, shown
 NAMED = Units(UNITS)
 KNOWN = "k = 2 [km]\nf(a) = a\ng(a[m], b) = a\n"
 POOL = ("if then else k f g a b x q zz abcdefghijkl abcdefghijklm If 0 1 2 00 0.5 1.50 2. .5 1..2 3a + - * / ^ ( ) [ ] "
-        "[m] [m^2 [1] [] [1 m] [m  s] [M] [c] [q^2] [s] , < = > ! . _ A @ ^2 ^-1 ^(1/2) ^(-3/6) ^(1/0) ^(2 ^0.5 ^^ f(1) "
-        "g(1,2) g(1) (a) -a --a").split(" ") + ["\t", "\u00e9", "\u0663", "\r"]
+        "[m] [m^2 [1] [] [1 m] [m  s] [M] [c] [q^2] [s] , < = > ! . _ A @ ^2 ^-1 ^(1/2) ^(-3/6) ^(1/0) ^(2 ^0.5 ^^ "
+        "f(1) g(1,2) g(1) (a) -a --a").split(" ") + ["\t", "\u00e9", "\u0663", "\r"]
 
 
 class Right(unittest.TestCase):
@@ -68,7 +68,7 @@ class Right(unittest.TestCase):
 
 class Wrong(unittest.TestCase):
     def wrong(self, *marked):
-        """Fails unless each line, behind those of KNOWN, is wrong at the sign behind its mark ~, if any, whatever comes."""
+        """Fails unless each line, behind those of KNOWN, is wrong at the sign behind its mark ~, if there is one."""
         for text in marked:
             column = text.index("~") + 1
             line = text.replace("~", "")
@@ -81,7 +81,8 @@ class Wrong(unittest.TestCase):
             raised(self, BadText, (0, 0), Formulas, NAMED, value)
 
     def test_heads(self):
-        self.wrong("~= 2", "~2 = 2", "~if = 2", "~then(a) = 2", "~else = 2", "~k = 2", "~f(x) = 2", "~abcdefghijklm = 2",
+        self.wrong("~= 2", "~2 = 2", "~if = 2", "~then(a) = 2", "~else = 2", "~k = 2", "~f(x) = 2",
+                   "~abcdefghijklm = 2",
                    "~X = 2", "~(x) = 2", "~[m] = 2", "  ~f = 1", "~\tx = 1", "x~", "x   ~", "x ~y = 2", "x~[m] = 2",
                    "x~,y = 2", "x~-1 = 2", "x = ~", "x~A = 1", "x(~) = 2", "x(y,~) = 2", "x(~,y) = 2", "x(~2) = 2",
                    "x(~if) = 2", "x(~k) = 2", "x(~f) = 2", "x(~x) = 2", "x(y,~y) = 2", "x(y,~k) = 2", "x(y,~x) = 1",
@@ -93,22 +94,29 @@ class Wrong(unittest.TestCase):
         self.wrong("x(y[~]) = 2", "x(y[~ m]) = 2", "x(y[m ~]) = 2", "x(y[m ~ s]) = 2", "x(y[~M]) = 2", "x(y[~q]) = 2",
                    "x(y[~c]) = 2", "x(y[1 ~m]) = 2", "x(y[m ~1]) = 2", "x(y[~m^100]) = 2", "x(y[~2]) = 2",
                    "x(y[m ~s^01]) = 2", "x(y[~(]) = 2", "x(y[~m,s]) = 2", "x(y[m s~", "x(y[~", "x(y[m ~", "x(y[m~",
-                   "x(y)[~]", "x(y)[~", "x(y)[~k] = 1", "x(y)[m~", "x = 2 [~]", "x = 2 [~q]", "x = 2 [m ~q", "x = 2 [m~",
+                   "x(y)[~]", "x(y)[~", "x(y)[~k] = 1", "x(y)[m~", "x = 2 [~]", "x = 2 [~q]", "x = 2 [m ~q",
+                   "x = 2 [m~",
                    "x = 2 [~[m]]", "x = 2 [m]~]", "x = 2 [m] ~[s]", "x(y[~m=2) = 1", "x = 2 [~", "x(y[1 ~1]) = 1",
                    "x(y[1 ~]) = 1", "x(y[m s ~q A]) = 1", "x(y[~m\t]) = 1", "x(y[m s^-1]~", "x(y)[m s] ~+")
 
     def test_expressions(self):
-        self.wrong("x = ~+1", "x = -~-1", "x = 1 +~", "x = 1 + ~", "x = 1 + ~+ 2", "x = 1 * ~/ 2", "x = 1 - -~-2", "x = ~*1",
+        self.wrong("x = ~+1", "x = -~-1", "x = 1 +~", "x = 1 + ~", "x = 1 + ~+ 2", "x = 1 * ~/ 2", "x = 1 - -~-2",
+                   "x = ~*1",
                    "x = ~)", "x = (~)", "x = (1~", "x = (1)~)", "x = 1 ~2", "x = 1 ~k", "x = k ~1", "x = 1 ~(2)",
-                   "x = k~()", "x = k~(1)", "x = f~", "x = f ~+ 1", "x = f(~)", "x = f(1~,2)", "x = g(1~)", "x = g(1,2~,3)",
+                   "x = k~()", "x = k~(1)", "x = f~", "x = f ~+ 1", "x = f(~)", "x = f(1~,2)", "x = g(1~)",
+                   "x = g(1,2~,3)",
                    "x = g(1,~)", "x = g(1~", "x = g(1,2~", "x = ~y", "x = ~x", "x(y)=y~(1)", "x = 2~(k)", "x(y) = ~z",
-                   "x(y) = y ~[m]", "x(y) = k ~[m]", "x = (2) ~[m]", "x = 1 ~= 2", "x = 1 ~< 2", "x = 1~, 2", "x = ~[m]",
+                   "x(y) = y ~[m]", "x(y) = k ~[m]", "x = (2) ~[m]", "x = 1 ~= 2", "x = 1 ~< 2", "x = 1~, 2",
+                   "x = ~[m]",
                    "x = ~abcdefghijklm", "x = 2 ~abcdefghijklm", "x = ~A", "x = 2~A", "x = 2~\u00e9", "x = 2~.\u0663",
-                   "x = 2~.", "x = ~.5", "x = 2.5~.5", "x = 2~..5", "x = 2~a", "x = 1 + 2~\t", "x = 2 ~& 3", "x = (1 ~k)",
-                   "x = (1~,2)", "x = g(1 ~2)", "x = f(1~]", "x = f ~[m]", "x = ~_", "x = 1 ~then", "x = ~else", "x = 2^~k", "x = f(1)~(2)", "x = f(1)~[m]", "x = ~\u00b2")
+                   "x = 2~.", "x = ~.5", "x = 2.5~.5", "x = 2~..5", "x = 2~a", "x = 1 + 2~\t", "x = 2 ~& 3",
+                   "x = (1 ~k)",
+                   "x = (1~,2)", "x = g(1 ~2)", "x = f(1~]", "x = f ~[m]", "x = ~_", "x = 1 ~then", "x = ~else",
+                   "x = 2^~k", "x = f(1)~(2)", "x = f(1)~[m]", "x = ~\u00b2")
 
     def test_powers(self):
-        self.wrong("x = 2^~", "x = 2^-~", "x = 2^~k", "x = 2^~0.5", "x = 2^2~^2", "x = 2^-~0.5", "x = 2^-~-1", "x = 2^(~)",
+        self.wrong("x = 2^~", "x = 2^-~", "x = 2^~k", "x = 2^~0.5", "x = 2^2~^2", "x = 2^-~0.5", "x = 2^-~-1",
+                   "x = 2^(~)",
                    "x = 2^(1~", "x = 2^(1~.", "x = 2^(~1.5/2)", "x = 2^(1/~0)", "x = 2^(1/~00)", "x = 2^(1/~-2)",
                    "x = 2^(1/~2.5)", "x = 2^(1/~)", "x = 2^(1~+1)", "x = 2^(~(1))", "x = 2^(~k)", "x = 2^(1/2~/3)",
                    "x = 2^(1/~0.0)", "x = 2^(1/2~", "x = 2^(-~-1)", "x = 2^~^2", "x = 2^(1/2)~^2", "x = 2^~+1",
@@ -116,15 +124,18 @@ class Wrong(unittest.TestCase):
                    "x = 2^(1~,", "x = 2^(1/~", "x = 2^(1 ~", "x = 2^(1~^2)", "x = 2^~if", "x = 2^1~k")
 
     def test_ifs(self):
-        self.wrong("x = if~", "x = if ~", "x = if ~if 1<2 then 1 else 2 < 3 then 1 else 2", "x = if 1 ~then", "x = if 1 ~= 2",
-                   "x = if 1 < ~< 2", "x = if 1 < 2 ~< 3", "x = if 1 < 2~", "x = if 1 < 2 ~else 3", "x = if 1 < 2 then~",
+        self.wrong("x = if~", "x = if ~", "x = if ~if 1<2 then 1 else 2 < 3 then 1 else 2", "x = if 1 ~then",
+                   "x = if 1 ~= 2",
+                   "x = if 1 < ~< 2", "x = if 1 < 2 ~< 3", "x = if 1 < 2~", "x = if 1 < 2 ~else 3",
+                   "x = if 1 < 2 then~",
                    "x = if 1 < 2 then 3~", "x = if 1 < 2 then 3 ~then 4", "x = if 1 < 2 then 3 else ~",
                    "x = if 1 < 2 then 3 else 4 ~else 5", "x = if 1 < 2 then 3 else 4 ~< 5",
                    "x = 1 + ~if 1 < 2 then 3 else 4", "x = -~if 1 < 2 then 3 else 4", "x = ~then", "x = if (1 ~if 1",
                    "x = (if 1 < 2 then 3 ~4", "x = if 1 < 2 ~, 3", "x = if ~< 2", "x = if 1 < ~if 1", "x = if 1 < 2 ~)",
                    "x = (if 1 < 2 then 3 else 4 ~", "x = if 1 < 2 then 3 +~", "x = (if 1 < 2 then 3 ~)",
                    "x = f(if 1 < 2 then 3 else 4~,", "x = if 1 < 2 then if 1 < 2 then 3 else 4 else 5 ~else 6",
-                   "x = if 1 < 2 then if 1 < 2 then 3 else 4~", "x = if 1 < 2 then ~< 3", "x = ~if1 < 2", "x = 2 * ~if", "x = if 1 < 2 then 3 else 4 ^~^")
+                   "x = if 1 < 2 then if 1 < 2 then 3 else 4~", "x = if 1 < 2 then ~< 3", "x = ~if1 < 2", "x = 2 * ~if",
+                   "x = if 1 < 2 then 3 else 4 ^~^")
 
     def test_names_of_later_lines(self):
         raised(self, BadText, (1, 5), Formulas, NAMED, "x = y\ny = 1")

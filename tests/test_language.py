@@ -38,6 +38,12 @@ INTERFACE = {
                "ring_of/1",
     "conversions": "Sizes:__init__/2 Ring:__init__/3 Loose:__init__/2 sizes/2 size_settled/3 loose_ends/2",
     "formulas": "Formulas:__init__/3 Formulas:params/2 Formulas:told_units/2 Formulas:work/3 Formulas:quotient/2",
+    "inference": "Demand:__init__/4 General:__init__/3 Clash:__init__/5 Mend:__init__/4 Missing:__init__/4 demands/3 "
+                 "general_units/3 least_clash/3 well_united/4 mends/2 missing/2",
+    "worth": "Refuter:__init__/5 NoResult:__init__/4 Apart:__init__/4 weights_of/1 covariant/3 result_of/2 refuter/3 "
+             "no_result/2 rewritten/1 apart/2",
+    "hanging": "Zero:__init__/2 Hangs:__init__/5 hangs/2 quotient_rules/2 moving_rule/3 whole_share/1",
+    "groups": "Groups:__init__/4 groups_of/1 in_groups/2 base_sets/2 bar_of/2 by_base/2 groups_within/2",
     "units": "Units:exponents_of/2 Units:size_of/2 Units:written/2 Units:__init__/2",
 }
 

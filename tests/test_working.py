@@ -46,10 +46,13 @@ class Work(unittest.TestCase):
 
     def test_operations(self):
         for line, number in (("1+2*3", 7), ("(1+2)*3", 9), ("8/4/2", 1), ("8/(4/2)", 4), ("9-4-3", 2), ("9-(4-3)", 8),
-                             ("-2^2", -4), ("(-2)^2", 4), ("2*-3", -6), ("-2*3", -6), ("2--3", 5), ("-2^-1", Fraction(-1, 2)),
-                             ("2^3", 8), ("0^0", 1), ("0.25*4", 1), ("007.50", Fraction(15, 2)), ("6/4", Fraction(3, 2)),
+                             ("-2^2", -4), ("(-2)^2", 4), ("2*-3", -6), ("-2*3", -6), ("2--3", 5),
+                             ("-2^-1", Fraction(-1, 2)),
+                             ("2^3", 8), ("0^0", 1), ("0.25*4", 1), ("007.50", Fraction(15, 2)),
+                             ("6/4", Fraction(3, 2)),
                              ("1-2+3", 2), ("2/3*3", 2), ("2*3/3*2", 4), ("-(1+2)", -3), ("((2))", 2),
-                             ("2^(4/2)", 4), ("2^(0/7)", 1), ("2^(-1)", Fraction(1, 2)), ("(2)^(3)", 8), ("1/3", Fraction(1, 3))):
+                             ("2^(4/2)", 4), ("2^(0/7)", 1), ("2^(-1)", Fraction(1, 2)), ("(2)^(3)", 8),
+                             ("1/3", Fraction(1, 3))):
             self.same(value_of(line), plain(pair(number)))
 
     def test_units(self):
@@ -72,8 +75,11 @@ class Work(unittest.TestCase):
         self.same(value_of("a^(1/3)", [metres(0, 3)]), metres(0))
         self.same(value_of("a^(20/19)", [plain(2 ** 19)]), plain(2 ** 20))
         self.same(value_of("a^(1/2)", [plain(1)]), plain(1))
-        for line, given in (("a^(1/2)", plain(2)), ("a^(1/2)", metres(4)), ("a^(1/2)", plain(-4)), ("a^(1/3)", plain(-8)),
-                            ("a^(2/3)", plain(-8)), ("a^(1/2)", metres(0)), ("a^(3/2)", metres(4)), ("a^(-1/2)", metres(4)),
+        for line, given in (("a^(1/2)", plain(2)), ("a^(1/2)", metres(4)), ("a^(1/2)", plain(-4)),
+                            ("a^(1/3)", plain(-8)),
+                            ("a^(1/3)", plain(-1)), ("a^(2/3)", plain(-1)), ("a^(-1/3)", metres((-1, 8), 3)),
+                            ("a^(2/3)", plain(-8)), ("a^(1/2)", metres(0)), ("a^(3/2)", metres(4)),
+                            ("a^(-1/2)", metres(4)),
                             ("a^(-1/2)", plain(-4)), ("a^(2/6)", metres(8, 2)), ("a^(1/2)", plain((4, 3)))):
             self.fails(NotPower, "x(a) = a ~" + line[1:], [given])
         for line in ("a^-1", "a^(-1/2)", "a^(-4/2)", "a^(-3)"):
@@ -142,7 +148,8 @@ class Work(unittest.TestCase):
                 exponents = NAMED.exponents_of(words or source.choice(("m", "1", "m", "s", "m^2")))
                 if source.random() < 0.1:
                     exponents = (source.randint(-2, 2), source.randint(-2, 2))
-                given.append((exponents, Fraction(source.choice((0, 1, 1, 4, 8, 9, -1, -4)), source.choice((1, 1, 4, 27)))))
+                given.append((exponents, Fraction(source.choice((0, 1, 1, 4, 8, 9, -1, -4)),
+                                                  source.choice((1, 1, 4, 27)))))
             arguments = [Amount(exponents, pair(number)) for exponents, number in given]
             before = copy.deepcopy(arguments)
             try:
@@ -177,7 +184,8 @@ class Quotients(unittest.TestCase):
         self.assertEqual(shown(found), shown(due))
 
     def test_plain(self):
-        formulas = Formulas(NAMED, "k = 2[km]\nf(a[m], b)[s] = (a+b)/(a-b)\ng(x, y, z) = -f(y, k)^2*z^-1 - 0.5\nh(a)=a*0^0")
+        formulas = Formulas(NAMED,
+                            "k = 2[km]\nf(a[m], b)[s] = (a+b)/(a-b)\ng(x, y, z) = -f(y, k)^2*z^-1 - 0.5\nh(a)=a*0^0")
         a, b = letter_of(2, 0), letter_of(2, 1)
         self.same(formulas.quotient("f"), (a + b).over(a - b))
         self.same(formulas.quotient("k"), number_of(0, 2000))
@@ -298,6 +306,13 @@ class Limits(unittest.TestCase):
         line = "+".join([f"1/{k}" for k in range(2, 180)])
         self.assertEqual(value_of(line), plain(pair(sum([Fraction(1, k) for k in range(2, 180)]))))
         self.assertEqual(value_of("2^20*" * 190 + "1"), plain(2 ** 3800))
+
+    def test_long_numbers(self):
+        digits = "".join([str(k % 10) for k in range(1, 990)])
+        self.assertEqual(value_of(digits), plain(int(digits)))
+        self.assertEqual(value_of(digits[:900] + "." + digits[900:]), plain(pair(Fraction(int(digits), 10 ** 89))))
+        self.assertEqual(value_of(digits * 4 + "*1[km]"), metres(1000 * int(digits * 4)))
+        self.assertEqual(value_of("0." + "0" * 3000 + "5*2"), plain((1, 10 ** 3000)))
 
 
 if __name__ == "__main__":
