@@ -14,8 +14,33 @@ def coprime_parts(numbers):
 
 def parted(parts, number):
     """Such integers for the products of powers of parts, which are such, and for one number more."""
-    kept = list(parts)
-    waiting = [number]
+    kept = []
+    for part in parts:
+        # What the number shares with one part, it shares with no other, so each part is met once.
+        rest = without_factors(number, part)
+        if rest == number:
+            kept.append(part)
+        else:
+            kept.extend(pair_parts(part, number // rest))
+        number = rest
+    if number > 1:
+        kept.append(number)
+    return kept
+
+
+def without_factors(number, part):
+    """The greatest divisor of a number that has no common divisor above 1 with the part."""
+    shared = gcd(number, part)
+    while shared > 1:
+        number = number // shared
+        shared = gcd(number, shared)
+    return number
+
+
+def pair_parts(one, other):
+    """Such integers for two integers above 1."""
+    kept = [one]
+    waiting = [other]
     while waiting:
         new = waiting.pop()
         met = first_met(kept, new)
@@ -44,3 +69,13 @@ def times_in(number, part):
         number = number // part
         many += 1
     return many
+
+
+def wholes_of(ratios):
+    """The tops and bottoms of some ratios, pairs in lowest terms."""
+    return [whole for ratio in ratios for whole in ratio]
+
+
+def powers_in(ratio, parts):
+    """The row of the powers of the parts, as coprime_parts tells them, whose product is the ratio."""
+    return [times_in(ratio[0], part) - times_in(ratio[1], part) for part in parts]

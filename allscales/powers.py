@@ -2,7 +2,7 @@
 
 from math import lcm
 
-from allscales.coprime import coprime_parts, times_in
+from allscales.coprime import coprime_parts, times_in, wholes_of
 from allscales.errors import BadNumber
 from allscales.exact import as_ratio, is_whole, is_ratio, ratio_power, ratio_product, ratio_sum
 from allscales.ratios import MOST_ROOT, ratio_root
@@ -47,7 +47,7 @@ def power_product(pairs):
 
 def product_value(given):
     """As power_product, for pairs of ratios in lowest terms, with exponents of any bottom."""
-    wholes = [whole for ratio, exponent in given for whole in ratio]
+    wholes = wholes_of([ratio for ratio, exponent in given])
     # Powers of parts without common divisors can not make up for each other, so each part tells
     # its own least root, and no large product has to be searched for roots.
     roots = [part_root(part, given) for part in coprime_parts(wholes)]

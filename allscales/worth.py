@@ -75,11 +75,16 @@ def result_of(f, exponents):
 
 def check_exponents(f, exponents):
     """Raises the error that is due unless exponents are those of the letters of a quotient."""
-    if not is_list(exponents) or len(exponents) != f.size or not all([isinstance(row, tuple) for row in exponents]):
+    if not is_letters(exponents) or len(exponents) != f.size:
         raise BadMatrix("exponents")
+
+
+def is_letters(exponents):
+    """Whether a value is a list of at least one tuple of the same number, from 1 on, of integers."""
+    if not is_list(exponents) or len(exponents) == 0 or not all([isinstance(row, tuple) for row in exponents]):
+        return False
     width = len(exponents[0])
-    if width == 0 or not all([len(row) == width and are_integers(row) for row in exponents]):
-        raise BadMatrix("exponents")
+    return width > 0 and all([len(row) == width and are_integers(row) for row in exponents])
 
 
 def check_result(result, width):

@@ -44,6 +44,11 @@ INTERFACE = {
              "no_result/2 rewritten/1 apart/2",
     "hanging": "Zero:__init__/2 Hangs:__init__/5 hangs/2 quotient_rules/2 moving_rule/3 whole_share/1",
     "groups": "Groups:__init__/4 groups_of/1 in_groups/2 base_sets/2 bar_of/2 by_base/2 groups_within/2",
+    "systems": "System:__init__/3 System:solved_at/2 Scalings:__init__/3 Reduced:__init__/4 Recurrence:__init__/3 "
+               "Steps:__init__/5 scalings/1 reduced/1 carried_down/2 carried_up/3 weights_of_steps/1 run/3 "
+               "reduced_recurrence/1",
+    "ones": "Tied:__init__/2 Parting:__init__/3 Barred:__init__/4 together/2 called_one/2 alike_units/2 put_back/4",
+    "bases": "Powers:__init__/3 NoPowers:__init__/3 coprime_base/1 relations/1 as_powers/3",
     "units": "Units:exponents_of/2 Units:size_of/2 Units:written/2 Units:__init__/2",
 }
 
