@@ -3,7 +3,7 @@
 from allscales.errors import BadNumber, BadText
 from allscales.exact import are_integers, ratio_product
 from allscales.words import (checked_powers, exponents_in, is_name, lines_of, powers_of, ratio_word, size_in,
-                             wrong_unit_word)
+                             wrong_names_column, wrong_unit_word)
 
 MOST_BASE = 6
 
@@ -68,15 +68,9 @@ def measure_of(word, words, measures, many):
 
 def wrong_base_column(lines):
     """The column of the first wrong word of the first line, 0 if it is right."""
-    if lines == [] or lines[0][0] != "base":
+    if lines == []:
         return 1
-    names = lines[0][1:]
-    if names == []:
-        return 2
-    for at, name in enumerate(names):
-        if at == MOST_BASE or not is_name(name) or name in names[:at]:
-            return at + 2
-    return 0
+    return wrong_names_column(lines[0], "base", MOST_BASE)
 
 
 def wrong_column(words, measures, scales):

@@ -51,6 +51,19 @@ def named_power(word):
     return (name, int(exponent))
 
 
+def wrong_names_column(words, head, most):
+    """The column of the first wrong word of a line: head, and from one to so many names, no two alike; 0 if right."""
+    if words[0] != head:
+        return 1
+    names = words[1:]
+    if names == []:
+        return 2
+    for at, name in enumerate(names):
+        if at == most or not is_name(name) or name in names[:at]:
+            return at + 2
+    return 0
+
+
 def wrong_unit_word(words, measures):
     """The index of the first wrong one of UNITWORDS, None if they are right.
 

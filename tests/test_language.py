@@ -48,6 +48,13 @@ INTERFACE = {
                "Steps:__init__/5 scalings/1 reduced/1 carried_down/2 carried_up/3 weights_of_steps/1 run/3 "
                "reduced_recurrence/1",
     "ones": "Tied:__init__/2 Parting:__init__/3 Barred:__init__/4 together/2 called_one/2 alike_units/2 put_back/4",
+    "models": "Carried:__init__/3 Gap:__init__/2 carried/2",
+    "records": "Records:__init__/4 Records:settled/2 Contradiction:__init__/4 Settled:__init__/4 Open:__init__/3 "
+               "Fitting:__init__/3 NoUnits:__init__/4 plan/2 result_units/2",
+    "fits": "Unpowered:__init__/3 power_rule/1",
+    "desk": "Desk:__init__/2 Desk:put/2 Desk:edit/4 Desk:drop/2 Desk:rename/3 Desk:keep/2 Desk:release/2 "
+            "Desk:attempt/2 Desk:trial/2 Desk:undo/1 Desk:redo/1 Desk:lines/1 Desk:item_names/1 Desk:promises/1 "
+            "Desk:get_units/2 Desk:get_formulas/2 Desk:get_record/2 Desk:get_sizes/2 Desk:kept/2 Desk:broken/1",
     "bases": "Powers:__init__/3 NoPowers:__init__/3 coprime_base/1 relations/1 as_powers/3",
     "units": "Units:exponents_of/2 Units:size_of/2 Units:written/2 Units:__init__/2",
 }
@@ -158,6 +165,7 @@ class Names(unittest.TestCase):
             bound += [part.name for node in tree.body if isinstance(node, ast.ImportFrom) for part in node.names]
             bound += [node.arg for node in nodes if isinstance(node, ast.arg)]
             bound += [node.id for node in nodes if isinstance(node, ast.Name) and isinstance(node.ctx, ast.Store)]
+            bound += [node.name for node in nodes if isinstance(node, ast.ExceptHandler) and node.name is not None]
             for node in nodes:
                 if isinstance(node, ast.Name):
                     self.assertIn(node.id, bound + BUILTINS, name)
@@ -200,6 +208,17 @@ class Statements(unittest.TestCase):
                     caught = node.type.elts if isinstance(node.type, ast.Tuple) else [node.type]
                     for error in caught:
                         self.assertNotIn(error.id, BUILTINS + ["Exception", "TypeError", "KeyError"])
+
+
+    def test_finally_only_assigns(self):
+        for name, _, nodes in trees():
+            for node in nodes:
+                if isinstance(node, ast.Try):
+                    for row in node.finalbody:
+                        self.assertIsInstance(row, ast.Assign, (name, row.lineno))
+                        plain = (ast.Tuple, ast.Name, ast.Attribute, ast.expr_context)
+                        inside = [part for side in row.targets + [row.value] for part in ast.walk(side)]
+                        self.assertTrue(all([isinstance(part, plain) for part in inside]), (name, row.lineno))
 
 
 class Interface(unittest.TestCase):
