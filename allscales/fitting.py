@@ -21,9 +21,9 @@ def is_measurement(row, many):
     return isinstance(row, tuple) and len(row) == 2 and is_inputs(row[0], many) and is_ratio(row[1])
 
 
-def whole_measurement(row):
-    """The pair of inputs and value with all ratios in lowest terms."""
-    return (tuple([as_ratio(item) for item in row[0]]), as_ratio(row[1]))
+def lowest_inputs(inputs):
+    """Inputs with all ratios in lowest terms."""
+    return tuple([as_ratio(item) for item in inputs])
 
 
 def fitted_powers(rows, many):

@@ -3,8 +3,8 @@
 from allscales.coprime import coprime_parts, powers_in, wholes_of
 from allscales.echelon import kernel_rows, saturated_rows, sum_of_rows, transposed
 from allscales.errors import BadNumber, Contradicted
-from allscales.exact import as_tuples, is_list, ratio_over, ratio_product, ratio_sum, whole_power
-from allscales.fitting import fitted_powers, is_above, is_inputs, is_measurement, shared_out, whole_measurement
+from allscales.exact import as_ratio, as_tuples, is_list, ratio_over, ratio_product, ratio_sum, whole_power
+from allscales.fitting import fitted_powers, is_above, is_inputs, is_measurement, lowest_inputs, shared_out
 from allscales.hanging import check_exponents
 from allscales.matrices import Bar, check_matrix, ratio_answer
 from allscales.pieces import piece_at
@@ -42,7 +42,7 @@ class Records:
             raise Contradicted(self.contradiction.first, self.contradiction.second)
         if self.powers is None:
             return Settled(None, None, NOTHING)
-        point = whole_measurement((inputs, 0))[0]
+        point = lowest_inputs(inputs)
         mark = mark_of(self.basis, point)
         firsts = [orbit[0] for orbit in self.orbits]
         for first in firsts:
@@ -104,7 +104,7 @@ def checked_rows(rows, many, above):
     for row in rows:
         if not is_measurement(row, many) or (above and not is_above(row[1])):
             raise BadNumber("row", row)
-    return tuple([whole_measurement(row) for row in rows])
+    return tuple([(lowest_inputs(inputs), as_ratio(value)) for inputs, value in rows])
 
 
 def mark_of(basis, inputs):
@@ -175,7 +175,7 @@ def plan(exponents, inputs):
         if not is_inputs(item, len(exponents)):
             raise BadNumber("inputs", item)
     basis = kernel_rows(transposed(exponents))
-    marks = [mark_of(basis, whole_measurement((item, 0))[0]) for item in inputs]
+    marks = [mark_of(basis, lowest_inputs(item)) for item in inputs]
     return tuple([orbit[0] for orbit in orbits_among(marks)])
 
 

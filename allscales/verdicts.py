@@ -47,9 +47,8 @@ def verdict_by(promise, content):
 def formula_witness(promise, formulas):
     """What shows that a formula does not have the units that are promised, None if it has them."""
     name = promise.formula
-    if name not in formulas.names:
-        raise NoName(name)
     many = len(promise.units) - 1
+    # A name that no formula has is found by params.
     if many != len(formulas.params(name)):
         raise BadNumber("units", many)
     exponents = tuple([formulas.units.exponents_of(" ".join(words)) for words in promise.units])

@@ -296,7 +296,8 @@ class PowerRules(Case):
         for wrong in (None, 5, "ab", {}, True, {0: ((1, 1), 1)}, [], ()):
             raised(self, BadNumber, ("rows", wrong), power_rule, wrong)
         right = ((1, 2), 3)
-        wrong = [None, 5, "ab", {}, (), (right,), [(1, 2), 3], ((1, 2), 3, 4), ((1, 2),), ((), 3), ((), ())]
+        wrong = [None, 5, "ab", {}, (), (right,), [(1, 2), 3], ((1, 2), 3, 4), ((1, 2),), ((), 3), ((), ()), (None, 3), (5, 3),
+                 ("ab", 3), ({}, 3)]
         wrong += [((1, item), 1) for item in NOT_ABOVE] + [((1, 2), value) for value in NOT_ABOVE]
         for row in wrong:
             raised(self, BadNumber, ("row", row), power_rule, [row])
